@@ -1,0 +1,1 @@
+"""Scripts of rules that turn names into others."""
