@@ -1,6 +1,6 @@
 """Words, names and folders: what is one and what is not."""
 
-from namescripts.errors import NoName
+from namescripts.errors import NoName, NoWord
 
 MOST_LETTERS = 6
 MOST_FIELDS = 30
@@ -33,6 +33,12 @@ def is_folder(thing):
         return False
     # Only names are sure to be comparable, so they are looked at first.
     return all([is_name(name) for name in thing]) and is_rising(thing)
+
+
+def need_word(thing):
+    """Refuse what is not a word."""
+    if not is_word(thing):
+        raise NoWord("not a word of 1 to 6 letters")
 
 
 def need_name(thing):

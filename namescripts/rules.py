@@ -133,23 +133,19 @@ def looked_at(rule, name):
     return name[:len(fronts)] + name[len(name) - len(backs):]
 
 
-def matched(rule, name):
-    """The fields at which the tests look, if the rule fits the name; else None."""
+def is_fitting(rule, name):
+    """Whether the rule fits the name, which may be of any length."""
     looked = looked_at(rule, name)
     if looked is None:
-        return None
+        return False
     tests = rule[0] + rule[2]
-    if not all([passes(test, field, looked) for test, field in zip(tests, looked)]):
-        return None
-    return looked
+    return all([passes(test, field, looked) for test, field in zip(tests, looked)])
 
 
-def made(rule, name):
-    """What the rule makes of the name, which may be of any length; or None."""
-    looked = matched(rule, name)
-    if looked is None:
-        return None
+def built(rule, name):
+    """What the rule makes of a name that it fits, whatever the fields are."""
     fronts, _, backs, making = rule
+    looked = looked_at(rule, name)
     fields = []
     for item in making:
         if item[0] == "word":
@@ -161,10 +157,17 @@ def made(rule, name):
     return tuple(fields)
 
 
+def made(rule, name):
+    """What the rule makes of the name, which may be of any length; or None."""
+    if not is_fitting(rule, name):
+        return None
+    return built(rule, name)
+
+
 def first_fitting(script, name):
     """The number of the first rule that fits the name of any length; or None."""
     for number, rule in enumerate(script):
-        if matched(rule, name) is not None:
+        if is_fitting(rule, name):
             return number
     return None
 
@@ -174,14 +177,14 @@ def turn(script, name):
     number = first_fitting(script, name)
     if number is None:
         return name
-    return made(script[number], name)
+    return built(script[number], name)
 
 
 def fits(rule, name):
     """Whether the rule fits the name."""
     need_rule(rule)
     need_name(name)
-    return matched(rule, name) is not None
+    return is_fitting(rule, name)
 
 
 def makes(rule, name):

@@ -5,6 +5,10 @@ from itertools import product
 A, B, C, D = ("a",), ("b",), ("c",), ("d",)
 LONG = ("a",) * 30
 TOO_LONG = ("a",) * 31
+ANY = ("any",)
+REST = ("rest",)
+IS_A, IS_B = ("is", "a"), ("is", "b")
+X = (("word", "x"),)
 
 
 class Sullen:
@@ -56,6 +60,14 @@ def swaps(thing, others):
         if isinstance(part, tuple):
             for changed in swaps(part, others):
                 yield ahead + (changed,) + behind
+
+
+def closed(*fronts, making=X):
+    return (fronts, False, (), tuple(making))
+
+
+def ajar(fronts, backs, making=X):
+    return (tuple(fronts), True, tuple(backs), tuple(making))
 
 
 def rename(old, new):

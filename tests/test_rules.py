@@ -7,16 +7,12 @@ from itertools import product
 from namescripts.errors import NoName, NoRule, NoScript
 from namescripts.rules import first, fits, is_rule, is_script, makes, turned
 from tests.samples import (
-    A, B, C, LONG, SHIFT, TOO_LONG, Sullen, names_over, nested, odd_things, rename, swaps,
+    A, ANY, B, C, IS_A, IS_B, LONG, REST, SHIFT, TOO_LONG, X, Sullen, names_over, nested, odd_things, rename, swaps,
 )
-
-ANY = ("any",)
-REST = ("rest",)
-IS_A, IS_B = ("is", "a"), ("is", "b")
-X = (("word", "x"),)
 
 
 def closed(*fronts, making=X):
+    """As in the samples, but with a making that may be anything."""
     return (fronts, False, (), making)
 
 
